@@ -63,6 +63,7 @@ func TestNumbersAreSteps(t *testing.T) {
 
 // TestTexts: a word of each byte, and of each length.
 func TestTexts(t *testing.T) {
+	t.Parallel()
 	const good = "abcdefghijklmnopqrstuvwxyzABCDEFGHIJKLMNOPQRSTUVWXYZ0123456789._"
 	for b := range 256 {
 		letter := string([]byte{byte(b)})

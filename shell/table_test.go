@@ -28,6 +28,7 @@ func isForm(line string) bool {
 
 // TestEachRow: each row is there; it needs what is said; and none of its words may be missing, be of another kind, or come beside.
 func TestEachRow(t *testing.T) {
+	t.Parallel()
 	for _, r := range table {
 		words := plainWords(r.form)
 		line := strings.Join(words, " ")

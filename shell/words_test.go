@@ -252,7 +252,7 @@ func (p *plain) okIf(e api.Errno) api.Errno {
 
 func (p *plain) newWorld(w []string) api.Errno {
 	var seed []byte
-	fmt.Sscanf(strings.TrimPrefix(w[2], "-"), "%x", &seed)
+	fmt.Sscanf(w[2], "%x", &seed)
 	staff := slices.Clone(p.staff)
 	slices.SortFunc(staff, func(a, b api.Staff) int { return int(int64(a.Actor) - int64(b.Actor)) })
 	c := api.Config{Width: n(w[0]), Height: n(w[1]), Seed: seed, Staff: staff, Segment: n(w[3]), Disk: n(w[4])}
@@ -397,7 +397,7 @@ func (p *plain) trail(w []string) api.Errno {
 }
 
 func (p *plain) series(w []string) api.Errno {
-	unit := max(slices.Index(unitNames, strings.TrimPrefix(w[2], "-")), 0)
+	unit := max(slices.Index(unitNames, w[2]), 0)
 	l, e := audit.Series(p.w.Log(2), u(w[0]), w[1], uint8(unit))
 	if e != api.OK {
 		return e
