@@ -67,8 +67,8 @@ type arguments struct {
 	fields  []api.Field
 }
 
-// read tells the command of a line, and what its words tell; false, if the line has the form of none.
-func read(line string) (command, arguments, bool) {
+// commandOf tells the command of a line, and what its words tell; false, if the line has the form of none.
+func commandOf(line string) (command, arguments, bool) {
 	words := strings.Split(line, " ")
 rows:
 	for _, c := range commands() {
